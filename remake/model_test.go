@@ -1,0 +1,283 @@
+package remake_test
+
+import (
+	"fmt"
+	"math/rand"
+	"testing"
+
+	"remake/api"
+	"remake/remake"
+)
+
+// thing and model: a heap said in other words, of pointers and maps.
+type thing struct {
+	class   byte
+	numbers map[byte]int64
+	refs    map[byte]*thing
+}
+
+type model struct {
+	schema map[byte]map[byte]byte // Letter, letter, kind
+	size   int
+	roots  [8]*thing
+}
+
+// pair: a heap and the model that it must agree with.
+type pair struct {
+	heap  *remake.Heap
+	model *model
+}
+
+var sampleSchemas = []struct {
+	text   string
+	schema map[byte]map[byte]byte
+}{
+	{"P{x:w,n:r}", map[byte]map[byte]byte{'P': {'x': 'w', 'n': 'r'}}},
+	{"P{x:b,n:r,m:r}Q{}", map[byte]map[byte]byte{'P': {'x': 'b', 'n': 'r', 'm': 'r'}, 'Q': {}}},
+	{"Q{n:h,x:r}P{m:r,x:l,n:r,y:b}", map[byte]map[byte]byte{'Q': {'n': 'h', 'x': 'r'}, 'P': {'m': 'r', 'x': 'l', 'n': 'r', 'y': 'b'}}},
+}
+
+func (m *model) words() int {
+	seen := map[*thing]bool{}
+	total := 0
+	var visit func(x *thing)
+	visit = func(x *thing) {
+		if x == nil || seen[x] {
+			return
+		}
+		seen[x] = true
+		total += 1 + len(m.schema[x.class])
+		for _, y := range x.refs {
+			visit(y)
+		}
+	}
+	for _, x := range m.roots {
+		visit(x)
+	}
+	return total
+}
+
+func outside(roots ...int) bool {
+	for _, root := range roots {
+		if root < 0 || root > 7 {
+			return true
+		}
+	}
+	return false
+}
+
+func (m *model) make(root int, class byte) api.Errno {
+	fields, known := m.schema[class]
+	switch {
+	case outside(root):
+		return api.ErrRoot
+	case !known:
+		return api.ErrClass
+	case m.words()+1+len(fields) > m.size:
+		return api.ErrFull
+	}
+	m.roots[root] = &thing{class: class, numbers: map[byte]int64{}, refs: map[byte]*thing{}}
+	return api.OK
+}
+
+func (m *model) class(root int) (byte, api.Errno) {
+	switch {
+	case outside(root):
+		return 0, api.ErrRoot
+	case m.roots[root] == nil:
+		return 0, api.ErrNil
+	}
+	return m.roots[root].class, api.OK
+}
+
+// field: the root's object and the field's kind; all is checked but the kind.
+func (m *model) field(field byte, root int, other int) (*thing, byte, api.Errno) {
+	if outside(root, other) {
+		return nil, 0, api.ErrRoot
+	}
+	x := m.roots[root]
+	if x == nil {
+		return nil, 0, api.ErrNil
+	}
+	kind, known := m.schema[x.class][field]
+	if !known {
+		return nil, 0, api.ErrField
+	}
+	return x, kind, api.OK
+}
+
+func (m *model) get(root int, field byte) (int64, api.Errno) {
+	x, kind, e := m.field(field, root, 0)
+	switch {
+	case e != api.OK:
+		return 0, e
+	case kind == 'r':
+		return 0, api.ErrKind
+	}
+	return x.numbers[field], api.OK
+}
+
+func (m *model) put(root int, field byte, value int64) api.Errno {
+	x, kind, e := m.field(field, root, 0)
+	if e != api.OK {
+		return e
+	}
+	switch kind {
+	case 'r':
+		return api.ErrKind
+	case 'b':
+		value = value & 255
+	case 'h':
+		value = (value&0xffff ^ 0x8000) - 0x8000
+	case 'w':
+		value = (value&0xffffffff ^ 0x80000000) - 0x80000000
+	}
+	x.numbers[field] = value
+	return api.OK
+}
+
+func (m *model) follow(root int, field byte, to int) api.Errno {
+	x, kind, e := m.field(field, root, to)
+	switch {
+	case e != api.OK:
+		return e
+	case kind != 'r':
+		return api.ErrKind
+	}
+	m.roots[to] = x.refs[field]
+	return api.OK
+}
+
+func (m *model) link(root int, field byte, from int) api.Errno {
+	x, kind, e := m.field(field, root, from)
+	switch {
+	case e != api.OK:
+		return e
+	case kind != 'r':
+		return api.ErrKind
+	}
+	x.refs[field] = m.roots[from]
+	return api.OK
+}
+
+func (m *model) copy(root int, to int) api.Errno {
+	if outside(root, to) {
+		return api.ErrRoot
+	}
+	m.roots[to] = m.roots[root]
+	return api.OK
+}
+
+func (m *model) clear(root int) api.Errno {
+	if outside(root) {
+		return api.ErrRoot
+	}
+	m.roots[root] = nil
+	return api.OK
+}
+
+func (m *model) same(root int, other int) (bool, api.Errno) {
+	if outside(root, other) {
+		return false, api.ErrRoot
+	}
+	return m.roots[root] == m.roots[other], api.OK
+}
+
+func someRoot(r *rand.Rand) int {
+	if r.Intn(30) == 0 {
+		return noRoots[r.Intn(len(noRoots))]
+	}
+	return r.Intn(8)
+}
+
+func someValue(r *rand.Rand) int64 {
+	if r.Intn(3) == 0 {
+		return int64(r.Uint64())
+	}
+	return int64(1)<<r.Intn(64) - int64(r.Intn(3))
+}
+
+// act does one call with both, and tells it and both answers.
+func (p pair) act(r *rand.Rand) (what string, got api.Errno, want api.Errno) {
+	root, other := someRoot(r), someRoot(r)
+	field := "xnmyx?"[r.Intn(6)]
+	switch r.Intn(9) {
+	case 0, 1:
+		class := "PPPQQ?"[r.Intn(6)]
+		return fmt.Sprintf("P7: Make(%d, %q)", root, class), p.heap.Make(root, class), p.model.make(root, class)
+	case 2, 3:
+		value := someValue(r)
+		return fmt.Sprintf("P8: Put(%d, %q, %d)", root, field, value), p.heap.Put(root, field, value), p.model.put(root, field, value)
+	case 4:
+		return fmt.Sprintf("P9: Follow(%d, %q, %d)", root, field, other), p.heap.Follow(root, field, other), p.model.follow(root, field, other)
+	case 5, 6:
+		return fmt.Sprintf("P9: Link(%d, %q, %d)", root, field, other), p.heap.Link(root, field, other), p.model.link(root, field, other)
+	case 7:
+		return fmt.Sprintf("P10: Copy(%d, %d)", root, other), p.heap.Copy(root, other), p.model.copy(root, other)
+	}
+	return fmt.Sprintf("P10: Clear(%d)", root), p.heap.Clear(root), p.model.clear(root)
+}
+
+// compare: all that the calls tell without changing anything.
+func (p pair) compare(t *testing.T) {
+	t.Helper()
+	words(t, p.heap, p.model.words())
+	for root := -1; root <= 8; root++ {
+		c, e := p.model.class(root)
+		class(t, p.heap, root, c, e)
+		for _, field := range []byte("xnmy?") {
+			v, e := p.model.get(root, field)
+			get(t, p.heap, root, field, v, e)
+		}
+		for other := -1; other <= 8; other++ {
+			s, e := p.model.same(root, other)
+			same(t, p.heap, root, other, s, e)
+		}
+	}
+}
+
+func somePair(t *testing.T, r *rand.Rand) pair {
+	s := sampleSchemas[r.Intn(len(sampleSchemas))]
+	size := 1 + r.Intn(40)
+	return pair{heap: made(t, s.text, size), model: &model{schema: s.schema, size: size}}
+}
+
+// TestHeapsAgreeWithTheirModels: many calls, on two heaps by turns, so that neither may feel the other (P2).
+// All is compared after each call on both, so that a call that answers an error may change nothing (P1).
+func TestHeapsAgreeWithTheirModels(t *testing.T) {
+	for seed := int64(0); seed < 150 && !t.Failed(); seed++ {
+		r := rand.New(rand.NewSource(seed))
+		pairs := [2]pair{somePair(t, r), somePair(t, r)}
+		for i := 0; i < 250 && !t.Failed(); i++ {
+			what, got, want := pairs[r.Intn(2)].act(r)
+			is(t, what, got, want)
+			pairs[0].compare(t)
+			pairs[1].compare(t)
+			if t.Failed() {
+				t.Errorf("seed %d, call %d: %s", seed, i, what)
+			}
+		}
+	}
+}
+
+// TestAnswersHangOnTheCallsAlone: the same calls get the same answers, whatever other heaps there are (P2).
+func TestAnswersHangOnTheCallsAlone(t *testing.T) {
+	told := func(others int) string {
+		r := rand.New(rand.NewSource(77))
+		for i := 0; i < others; i++ {
+			h := made(t, "P{x:w,n:r}", 200)
+			ok(t, "P7: Make", h.Make(0, 'P'))
+			ok(t, "P8: Put", h.Put(0, 'x', int64(i)))
+		}
+		p := somePair(t, r)
+		all := ""
+		for i := 0; i < 400; i++ {
+			what, got, _ := p.act(r)
+			all += fmt.Sprintln(what, got, p.heap.Words())
+		}
+		return all
+	}
+	if told(0) != told(5) {
+		t.Errorf("P2: the same calls get other answers")
+	}
+}
