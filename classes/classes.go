@@ -30,6 +30,15 @@ func (c Class) Index(letter byte) int {
 	return -1
 }
 
+// KindOf tells the kind of a field, and whether the class has one of that letter.
+func (c Class) KindOf(letter byte) (byte, bool) {
+	index := c.Index(letter)
+	if index < 0 || index >= len(c.Fields) {
+		return 0, false
+	}
+	return c.Fields[index].Kind, true
+}
+
 // Words tells how many words an object of the class takes.
 func (c Class) Words() int {
 	return len(c.Fields) + 1
@@ -43,15 +52,6 @@ func (s Schema) Find(letter byte) (Class, bool) {
 		}
 	}
 	return Class{}, false
-}
-
-// IsKind tells whether a byte is a kind of field.
-func IsKind(b byte) bool {
-	switch b {
-	case api.Byte, api.Half, api.Word, api.Long, api.Ref:
-		return true
-	}
-	return false
 }
 
 // Wrap makes of n the number of the kind that it wraps to.

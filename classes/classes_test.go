@@ -52,12 +52,9 @@ func TestFind(t *testing.T) {
 			t.Errorf("Index(%q) = %d, want %d", letter, i, want)
 		}
 	}
-}
-
-func TestIsKind(t *testing.T) {
-	for b := 0; b < 256; b++ {
-		if want := strings.IndexByte("bhwlr", byte(b)) >= 0; IsKind(byte(b)) != want {
-			t.Errorf("IsKind(%q) is not %v", byte(b), want)
+	for letter, want := range map[byte]byte{'x': 'w', 'n': 'r', 'y': 0, 0: 0} {
+		if kind, ok := p.KindOf(letter); kind != want || ok != (want != 0) {
+			t.Errorf("KindOf(%q) = %q, %v, want %q", letter, kind, ok, want)
 		}
 	}
 }

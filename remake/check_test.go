@@ -122,26 +122,33 @@ func compareCheck(t *testing.T, text string) {
 	}
 }
 
-// TestCheckOfChangedTexts: texts that are schemas, with a byte changed, left out or put in, and their beginnings.
+// changes: the text's beginnings, and the text with a byte changed, left out or put in.
+func changes(text string, bytes string) []string {
+	list := []string{text}
+	for i := 0; i <= len(text); i++ {
+		for j := range len(bytes) {
+			list = append(list, text[:i]+bytes[j:j+1]+text[i:])
+			if i < len(text) {
+				list = append(list, text[:i]+bytes[j:j+1]+text[i+1:])
+			}
+		}
+		if i < len(text) {
+			list = append(list, text[:i], text[:i]+text[i+1:])
+		}
+	}
+	return list
+}
+
+// TestCheckOfChangedTexts: texts that are schemas, or nearly so, changed.
 func TestCheckOfChangedTexts(t *testing.T) {
-	bytes := "AQZ@[abhlrwxz`{}:,=<!0 \x00\xff"
 	for _, text := range []string{
 		"P{x:w,n:r}Q{}",
 		"P{a:b,b:h,c:w,d:l,e:r,f:b}Q{q:b}",
 		"A{}B{b:l}C{}D{}E{a:r,z:h}F{}",
 		"P{x:b,x:b}P{}",
 	} {
-		for i := 0; i <= len(text); i++ {
-			compareCheck(t, text[:i])
-			for j := 0; j < len(bytes); j++ {
-				compareCheck(t, text[:i]+bytes[j:j+1]+text[i:])
-				if i < len(text) {
-					compareCheck(t, text[:i]+bytes[j:j+1]+text[i+1:])
-				}
-			}
-			if i < len(text) {
-				compareCheck(t, text[:i]+text[i+1:])
-			}
+		for _, changed := range changes(text, "AQZ@[abhlrwxz`{}:,=<!0 \x00\xff") {
+			compareCheck(t, changed)
 		}
 	}
 }

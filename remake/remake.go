@@ -4,6 +4,8 @@ package remake
 import (
 	"remake/api"
 	"remake/classes"
+	"remake/packing"
+	"remake/updates"
 )
 
 // Check tells whether a text is a schema (P3).
@@ -13,13 +15,23 @@ func Check(schema string) (api.Errno, int) {
 }
 
 // Fits tells whether a text is an update to a schema (P4).
-func Fits(schema string, update string) (api.Errno, int) { return api.OK, 0 }
+func Fits(schema string, update string) (api.Errno, int) {
+	old, e, place := classes.Read(schema)
+	if e != api.OK {
+		return e, place
+	}
+	return updates.Fits(old, update)
+}
 
 // Pack writes a text as bytes with a check (P5).
-func Pack(update string) (string, api.Errno) { return "", api.OK }
+func Pack(update string) (string, api.Errno) {
+	return packing.Pack(update)
+}
 
 // Unpack reads it (P5).
-func Unpack(code string) (string, api.Errno) { return "", api.OK }
+func Unpack(code string) (string, api.Errno) {
+	return packing.Unpack(code)
+}
 
 // New makes a heap (P6).
 func New(schema string, size int) (*Heap, api.Errno) {
