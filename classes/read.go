@@ -18,15 +18,21 @@ func Read(text string) (Schema, api.Errno, int) {
 	return schemaOf(list), api.OK, 0
 }
 
-// schemaOf leaves out where the classes and fields stood in their text.
 func schemaOf(list []grammar.Class) Schema {
 	var s Schema
 	for _, c := range list {
-		class := Class{Letter: c.Name.Letter}
-		for _, f := range c.Fields {
-			class.Fields = append(class.Fields, Field{Letter: f.Name.Letter, Kind: f.Kind})
-		}
+		class := Of(c)
 		s.Classes = append(s.Classes, class)
 	}
 	return s
+}
+
+// Of leaves out where a class and its fields stood in their text, and all that
+// an update says beside them.
+func Of(c grammar.Class) Class {
+	class := Class{Letter: c.Name.Letter}
+	for _, f := range c.Fields {
+		class.Fields = append(class.Fields, Field{Letter: f.Name.Letter, Kind: f.Kind})
+	}
+	return class
 }

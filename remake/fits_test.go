@@ -404,18 +404,19 @@ func pick(r *rand.Rand, from string) string {
 	return from[i : i+1]
 }
 
-func randomSum(r *rand.Rand, deep int) string {
+// randomSum: a sum of numbers and of these letters, which stands within so many brackets.
+func randomSum(r *rand.Rand, letters string, deep int) string {
 	var sum string
 	switch n := r.Intn(8); {
 	case n == 0 && deep < 6:
-		sum = "(" + randomSum(r, deep+1) + ")"
-	case n < 3:
+		sum = "(" + randomSum(r, letters, deep+1) + ")"
+	case n < 3 || letters == "":
 		sum = []string{"0", "1", "10", "999999999"}[r.Intn(4)]
 	default:
-		sum = pick(r, "abc")
+		sum = pick(r, letters)
 	}
 	if r.Intn(3) == 0 {
-		sum += pick(r, "+-*") + randomSum(r, deep)
+		sum += pick(r, "+-*") + randomSum(r, letters, deep)
 	}
 	return sum
 }
@@ -431,7 +432,7 @@ func randomText(r *rand.Rand, updates bool) string {
 		for fields := r.Intn(4); fields > 0; fields-- {
 			text += pick(r, "abcde") + ":" + pick(r, "bhwlrr")
 			if updates && r.Intn(2) == 0 {
-				text += "=" + randomSum(r, 0) + []string{"", "", "!"}[r.Intn(3)]
+				text += "=" + randomSum(r, "abc", 0) + []string{"", "", "!"}[r.Intn(3)]
 			}
 			if fields > 1 {
 				text += ","

@@ -3,6 +3,7 @@ package remake
 import (
 	"remake/api"
 	"remake/classes"
+	"remake/updates"
 )
 
 // none is what a root or a reference holds instead of an object's number. It
@@ -24,10 +25,24 @@ type Heap struct {
 	size    int
 	roots   [api.MaxRoots]int
 	objects [api.MaxSize + 1]object
+	pending bool
+	update  updates.Update // the one that is pending
 }
 
 func isRoot(root int) bool {
 	return root >= 0 && root < api.MaxRoots
+}
+
+// held tells the number of a root's object.
+func (h *Heap) held(root int) (int, api.Errno) {
+	if !isRoot(root) {
+		return none, api.ErrRoot
+	}
+	number := h.roots[root]
+	if number == none {
+		return none, api.ErrNil
+	}
+	return number, api.OK
 }
 
 // classOf tells the class of an object.
@@ -74,12 +89,9 @@ func (h *Heap) findRef(root int, letter byte, other int) (spot, api.Errno) {
 
 // findField finds the field of a root's object, and tells its kind.
 func (h *Heap) findField(root int, letter byte) (spot, byte, api.Errno) {
-	if !isRoot(root) {
-		return spot{}, 0, api.ErrRoot
-	}
-	number := h.roots[root]
-	if number == none {
-		return spot{}, 0, api.ErrNil
+	number, e := h.held(root)
+	if e != api.OK {
+		return spot{}, 0, e
 	}
 	class := h.classOf(number)
 	index := class.Index(letter)

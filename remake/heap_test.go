@@ -45,6 +45,13 @@ func get(t *testing.T, h *remake.Heap, root int, field byte, want int64, wantE a
 	}
 }
 
+func peek(t *testing.T, h *remake.Heap, root int, field byte, want int64, wantE api.Errno) {
+	t.Helper()
+	if v, e := h.Peek(root, field); v != want || e != wantE {
+		t.Errorf("P15: Peek(%d, %q) = %d, %d, want %d, %d", root, field, v, e, want, wantE)
+	}
+}
+
 func same(t *testing.T, h *remake.Heap, root int, other int, want bool, wantE api.Errno) {
 	t.Helper()
 	if s, e := h.Same(root, other); s != want || e != wantE {

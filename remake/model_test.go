@@ -17,24 +17,30 @@ type thing struct {
 }
 
 type model struct {
-	schema map[byte]map[byte]byte // Letter, letter, kind
+	text   string                     // of the schema
+	kinds  map[string]map[string]byte // and what it says: Letter, letter, kind
 	size   int
 	roots  [8]*thing
+	update string // the one that is pending, or nothing
+	ready  bool
+	spent  float64 // the budgets of its Steps
 }
 
 // pair: a heap and the model that it must agree with.
 type pair struct {
 	heap  *remake.Heap
 	model *model
+	peeks map[api.Errno]int // how often each answer of Peek has come about
 }
 
-var sampleSchemas = []struct {
-	text   string
-	schema map[byte]map[byte]byte
-}{
-	{"P{x:w,n:r}", map[byte]map[byte]byte{'P': {'x': 'w', 'n': 'r'}}},
-	{"P{x:b,n:r,m:r}Q{}", map[byte]map[byte]byte{'P': {'x': 'b', 'n': 'r', 'm': 'r'}, 'Q': {}}},
-	{"Q{n:h,x:r}P{m:r,x:l,n:r,y:b}", map[byte]map[byte]byte{'Q': {'n': 'h', 'x': 'r'}, 'P': {'m': 'r', 'x': 'l', 'n': 'r', 'y': 'b'}}},
+var sampleSchemas = []string{
+	"P{x:w,n:r}",
+	"P{x:b,n:r,m:r}Q{}",
+	"Q{n:h,x:r}P{m:r,x:l,n:r,y:b}",
+}
+
+func (m *model) fields(class byte) map[string]byte {
+	return m.kinds[string(class)]
 }
 
 func (m *model) words() int {
@@ -46,7 +52,7 @@ func (m *model) words() int {
 			return
 		}
 		seen[x] = true
-		total += 1 + len(m.schema[x.class])
+		total += 1 + len(m.fields(x.class))
 		for _, y := range x.refs {
 			visit(y)
 		}
@@ -67,11 +73,11 @@ func outside(roots ...int) bool {
 }
 
 func (m *model) make(root int, class byte) api.Errno {
-	fields, known := m.schema[class]
+	fields := m.fields(class)
 	switch {
 	case outside(root):
 		return api.ErrRoot
-	case !known:
+	case fields == nil:
 		return api.ErrClass
 	case m.words()+1+len(fields) > m.size:
 		return api.ErrFull
@@ -99,8 +105,8 @@ func (m *model) field(field byte, root int, other int) (*thing, byte, api.Errno)
 	if x == nil {
 		return nil, 0, api.ErrNil
 	}
-	kind, known := m.schema[x.class][field]
-	if !known {
+	kind := m.fields(x.class)[string(field)]
+	if kind == 0 {
 		return nil, 0, api.ErrField
 	}
 	return x, kind, api.OK
@@ -117,22 +123,27 @@ func (m *model) get(root int, field byte) (int64, api.Errno) {
 	return x.numbers[field], api.OK
 }
 
+func wrapped(kind byte, value int64) int64 {
+	switch kind {
+	case 'b':
+		return value & 255
+	case 'h':
+		return (value&0xffff ^ 0x8000) - 0x8000
+	case 'w':
+		return (value&0xffffffff ^ 0x80000000) - 0x80000000
+	}
+	return value
+}
+
 func (m *model) put(root int, field byte, value int64) api.Errno {
 	x, kind, e := m.field(field, root, 0)
-	if e != api.OK {
+	switch {
+	case e != api.OK:
 		return e
-	}
-	switch kind {
-	case 'r':
+	case kind == 'r':
 		return api.ErrKind
-	case 'b':
-		value = value & 255
-	case 'h':
-		value = (value&0xffff ^ 0x8000) - 0x8000
-	case 'w':
-		value = (value&0xffffffff ^ 0x80000000) - 0x80000000
 	}
-	x.numbers[field] = value
+	x.numbers[field] = wrapped(kind, value)
 	return api.OK
 }
 
@@ -198,24 +209,27 @@ func someValue(r *rand.Rand) int64 {
 }
 
 // act does one call with both, and tells it and both answers.
-func (p pair) act(r *rand.Rand) (what string, got api.Errno, want api.Errno) {
+func (p pair) act(r *rand.Rand) (what string, got string, want string) {
+	h, m := p.heap, p.model
 	root, other := someRoot(r), someRoot(r)
 	field := "xnmyx?"[r.Intn(6)]
-	switch r.Intn(9) {
+	switch r.Intn(12) {
 	case 0, 1:
 		class := "PPPQQ?"[r.Intn(6)]
-		return fmt.Sprintf("P7: Make(%d, %q)", root, class), p.heap.Make(root, class), p.model.make(root, class)
+		return fmt.Sprintf("P7: Make(%d, %q)", root, class), fmt.Sprint(h.Make(root, class)), fmt.Sprint(m.make(root, class))
 	case 2, 3:
 		value := someValue(r)
-		return fmt.Sprintf("P8: Put(%d, %q, %d)", root, field, value), p.heap.Put(root, field, value), p.model.put(root, field, value)
+		return fmt.Sprintf("P8: Put(%d, %q, %d)", root, field, value), fmt.Sprint(h.Put(root, field, value)), fmt.Sprint(m.put(root, field, value))
 	case 4:
-		return fmt.Sprintf("P9: Follow(%d, %q, %d)", root, field, other), p.heap.Follow(root, field, other), p.model.follow(root, field, other)
+		return fmt.Sprintf("P9: Follow(%d, %q, %d)", root, field, other), fmt.Sprint(h.Follow(root, field, other)), fmt.Sprint(m.follow(root, field, other))
 	case 5, 6:
-		return fmt.Sprintf("P9: Link(%d, %q, %d)", root, field, other), p.heap.Link(root, field, other), p.model.link(root, field, other)
+		return fmt.Sprintf("P9: Link(%d, %q, %d)", root, field, other), fmt.Sprint(h.Link(root, field, other)), fmt.Sprint(m.link(root, field, other))
 	case 7:
-		return fmt.Sprintf("P10: Copy(%d, %d)", root, other), p.heap.Copy(root, other), p.model.copy(root, other)
+		return fmt.Sprintf("P10: Copy(%d, %d)", root, other), fmt.Sprint(h.Copy(root, other)), fmt.Sprint(m.copy(root, other))
+	case 8:
+		return fmt.Sprintf("P10: Clear(%d)", root), fmt.Sprint(h.Clear(root)), fmt.Sprint(m.clear(root))
 	}
-	return fmt.Sprintf("P10: Clear(%d)", root), p.heap.Clear(root), p.model.clear(root)
+	return p.actOnUpdate(r)
 }
 
 // compare: all that the calls tell without changing anything.
@@ -225,9 +239,12 @@ func (p pair) compare(t *testing.T) {
 	for root := -1; root <= 8; root++ {
 		c, e := p.model.class(root)
 		class(t, p.heap, root, c, e)
-		for _, field := range []byte("xnmy?") {
+		for _, field := range []byte("xnmyz?") {
 			v, e := p.model.get(root, field)
 			get(t, p.heap, root, field, v, e)
+			v, e = p.model.peek(root, field)
+			p.peeks[e]++
+			peek(t, p.heap, root, field, v, e)
 		}
 		for other := -1; other <= 8; other++ {
 			s, e := p.model.same(root, other)
@@ -237,25 +254,38 @@ func (p pair) compare(t *testing.T) {
 }
 
 func somePair(t *testing.T, r *rand.Rand) pair {
-	s := sampleSchemas[r.Intn(len(sampleSchemas))]
+	text := sampleSchemas[r.Intn(len(sampleSchemas))]
 	size := 1 + r.Intn(40)
-	return pair{heap: made(t, s.text, size), model: &model{schema: s.schema, size: size}}
+	return pair{made(t, text, size), &model{text: text, kinds: kindsOf(text), size: size}, map[api.Errno]int{}}
 }
 
 // TestHeapsAgreeWithTheirModels: many calls, on two heaps by turns, so that neither may feel the other (P2).
 // All is compared after each call on both, so that a call that answers an error may change nothing (P1).
 func TestHeapsAgreeWithTheirModels(t *testing.T) {
+	peeks := map[api.Errno]int{}
 	for seed := int64(0); seed < 150 && !t.Failed(); seed++ {
 		r := rand.New(rand.NewSource(seed))
 		pairs := [2]pair{somePair(t, r), somePair(t, r)}
 		for i := 0; i < 250 && !t.Failed(); i++ {
 			what, got, want := pairs[r.Intn(2)].act(r)
-			is(t, what, got, want)
+			if got != want {
+				t.Errorf("%s: %s, want %s", what, got, want)
+			}
 			pairs[0].compare(t)
 			pairs[1].compare(t)
 			if t.Failed() {
 				t.Errorf("seed %d, call %d: %s", seed, i, what)
 			}
+		}
+		for _, p := range pairs {
+			for e, n := range p.peeks {
+				peeks[e] += n
+			}
+		}
+	}
+	for _, e := range []api.Errno{api.OK, api.ErrIdle, api.ErrRoot, api.ErrNil, api.ErrClass, api.ErrField, api.ErrKind, api.ErrRange} {
+		if peeks[e] < 1000 {
+			t.Errorf("P15: Peek answered error %d %d times", e, peeks[e])
 		}
 	}
 }

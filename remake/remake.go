@@ -20,7 +20,8 @@ func Fits(schema string, update string) (api.Errno, int) {
 	if e != api.OK {
 		return e, place
 	}
-	return updates.Fits(old, update)
+	_, e, place = updates.Read(old, update)
+	return e, place
 }
 
 // Pack writes a text as bytes with a check (P5).
@@ -67,12 +68,9 @@ func (h *Heap) Make(root int, class byte) api.Errno {
 
 // Class tells an object's class (P8).
 func (h *Heap) Class(root int) (byte, api.Errno) {
-	if !isRoot(root) {
-		return 0, api.ErrRoot
-	}
-	number := h.roots[root]
-	if number == none {
-		return 0, api.ErrNil
+	number, e := h.held(root)
+	if e != api.OK {
+		return 0, e
 	}
 	return h.objects[number].class, api.OK
 }
@@ -149,16 +147,56 @@ func (h *Heap) Words() int {
 }
 
 // Begin begins an update (P12).
-func (h *Heap) Begin(update string) (api.Errno, int) { return api.OK, 0 }
+func (h *Heap) Begin(update string) (api.Errno, int) {
+	if h.pending {
+		return api.ErrBusy, 0
+	}
+	u, e, place := updates.Read(h.schema, update)
+	if e != api.OK {
+		return e, place
+	}
+	h.pending = true
+	h.update = u
+	return api.OK, 0
+}
 
-// Step goes on with it (P13).
-func (h *Heap) Step(budget int) (bool, api.Errno) { return false, api.OK }
+// Step goes on with it (P13). Every object is remade of what it holds in the
+// end, so there is nothing to do ahead of that: the first Step finds it ready.
+func (h *Heap) Step(budget int) (bool, api.Errno) {
+	if !h.pending {
+		return false, api.ErrIdle
+	}
+	if budget < 1 {
+		return false, api.ErrBudget
+	}
+	return true, api.OK
+}
 
 // Peek tells what a number becomes (P15).
-func (h *Heap) Peek(root int, field byte) (int64, api.Errno) { return 0, api.OK }
+func (h *Heap) Peek(root int, field byte) (int64, api.Errno) {
+	if !h.pending {
+		return 0, api.ErrIdle
+	}
+	number, e := h.held(root)
+	if e != api.OK {
+		return 0, e
+	}
+	making, known := h.update.Find(h.objects[number].class)
+	if !known {
+		return 0, api.ErrClass
+	}
+	return making.Number(field, h.objects[number].numbers)
+}
 
 // Commit ends it: all is remade (P14).
 func (h *Heap) Commit() api.Errno { return api.OK }
 
 // Abort ends it: nothing is (P15).
-func (h *Heap) Abort() api.Errno { return api.OK }
+func (h *Heap) Abort() api.Errno {
+	if !h.pending {
+		return api.ErrIdle
+	}
+	h.pending = false
+	h.update = updates.Update{}
+	return api.OK
+}

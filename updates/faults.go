@@ -1,4 +1,3 @@
-// Package updates: what an update makes of a schema.
 package updates
 
 import (
@@ -9,19 +8,6 @@ import (
 
 // noLetter is told instead of a class's source where it is made of none.
 const noLetter = 0
-
-// Fits tells whether a text is an update to the old schema, or the fault and its place (P4).
-func Fits(old classes.Schema, text string) (api.Errno, int) {
-	list, e, place := grammar.ReadUpdate(text)
-	if e != api.OK {
-		return e, place
-	}
-	place = findTwice(old, list)
-	if place != grammar.Nowhere {
-		return api.ErrTwice, place
-	}
-	return findFault(old, list)
-}
 
 // findTwice tells the least place of ErrTwice, or Nowhere.
 func findTwice(old classes.Schema, list []grammar.Class) int {
