@@ -26,7 +26,15 @@ type Heap struct {
 	roots   [api.MaxRoots]int
 	objects [api.MaxSize + 1]object
 	pending bool
+	ready   bool           // a Step has answered so
 	update  updates.Update // the one that is pending
+}
+
+// end: the pending update is over.
+func (h *Heap) end() {
+	h.pending = false
+	h.ready = false
+	h.update = updates.Update{}
 }
 
 func isRoot(root int) bool {

@@ -28,9 +28,10 @@ type model struct {
 
 // pair: a heap and the model that it must agree with.
 type pair struct {
-	heap  *remake.Heap
-	model *model
-	peeks map[api.Errno]int // how often each answer of Peek has come about
+	heap    *remake.Heap
+	model   *model
+	peeks   map[api.Errno]int // how often each answer of Peek has come about
+	commits map[api.Errno]int // and of Commit
 }
 
 var sampleSchemas = []string{
@@ -39,26 +40,37 @@ var sampleSchemas = []string{
 	"Q{n:h,x:r}P{m:r,x:l,n:r,y:b}",
 }
 
+func newThing(class byte) *thing {
+	return &thing{class: class, numbers: map[byte]int64{}, refs: map[byte]*thing{}}
+}
+
 func (m *model) fields(class byte) map[string]byte {
 	return m.kinds[string(class)]
 }
 
-func (m *model) words() int {
+// there: the objects that are.
+func (m *model) there() map[*thing]bool {
 	seen := map[*thing]bool{}
-	total := 0
 	var visit func(x *thing)
 	visit = func(x *thing) {
 		if x == nil || seen[x] {
 			return
 		}
 		seen[x] = true
-		total += 1 + len(m.fields(x.class))
 		for _, y := range x.refs {
 			visit(y)
 		}
 	}
 	for _, x := range m.roots {
 		visit(x)
+	}
+	return seen
+}
+
+func (m *model) words() int {
+	total := 0
+	for x := range m.there() {
+		total += 1 + len(m.fields(x.class))
 	}
 	return total
 }
@@ -82,7 +94,7 @@ func (m *model) make(root int, class byte) api.Errno {
 	case m.words()+1+len(fields) > m.size:
 		return api.ErrFull
 	}
-	m.roots[root] = &thing{class: class, numbers: map[byte]int64{}, refs: map[byte]*thing{}}
+	m.roots[root] = newThing(class)
 	return api.OK
 }
 
@@ -210,12 +222,20 @@ func someValue(r *rand.Rand) int64 {
 
 // act does one call with both, and tells it and both answers.
 func (p pair) act(r *rand.Rand) (what string, got string, want string) {
+	if r.Intn(14) > 8 {
+		return p.actOnUpdate(r)
+	}
+	return p.actOnObjects(r)
+}
+
+// actOnObjects: one call of P7 to P10 with both.
+func (p pair) actOnObjects(r *rand.Rand) (what string, got string, want string) {
 	h, m := p.heap, p.model
 	root, other := someRoot(r), someRoot(r)
-	field := "xnmyx?"[r.Intn(6)]
-	switch r.Intn(12) {
+	field := "xnmyz?"[r.Intn(6)]
+	switch r.Intn(9) {
 	case 0, 1:
-		class := "PPPQQ?"[r.Intn(6)]
+		class := m.someClass(r)
 		return fmt.Sprintf("P7: Make(%d, %q)", root, class), fmt.Sprint(h.Make(root, class)), fmt.Sprint(m.make(root, class))
 	case 2, 3:
 		value := someValue(r)
@@ -226,10 +246,16 @@ func (p pair) act(r *rand.Rand) (what string, got string, want string) {
 		return fmt.Sprintf("P9: Link(%d, %q, %d)", root, field, other), fmt.Sprint(h.Link(root, field, other)), fmt.Sprint(m.link(root, field, other))
 	case 7:
 		return fmt.Sprintf("P10: Copy(%d, %d)", root, other), fmt.Sprint(h.Copy(root, other)), fmt.Sprint(m.copy(root, other))
-	case 8:
-		return fmt.Sprintf("P10: Clear(%d)", root), fmt.Sprint(h.Clear(root)), fmt.Sprint(m.clear(root))
 	}
-	return p.actOnUpdate(r)
+	return fmt.Sprintf("P10: Clear(%d)", root), fmt.Sprint(h.Clear(root)), fmt.Sprint(m.clear(root))
+}
+
+// someClass: most of them are the schema's.
+func (m *model) someClass(r *rand.Rand) byte {
+	if r.Intn(10) == 0 {
+		return pick(r, "PQRS?")[0]
+	}
+	return pick(r, lettersOf(m.kinds))[0]
 }
 
 // compare: all that the calls tell without changing anything.
@@ -256,17 +282,57 @@ func (p pair) compare(t *testing.T) {
 func somePair(t *testing.T, r *rand.Rand) pair {
 	text := sampleSchemas[r.Intn(len(sampleSchemas))]
 	size := 1 + r.Intn(40)
-	return pair{made(t, text, size), &model{text: text, kinds: kindsOf(text), size: size}, map[api.Errno]int{}}
+	return pair{made(t, text, size), &model{text: text, kinds: kindsOf(text), size: size}, map[api.Errno]int{}, map[api.Errno]int{}}
+}
+
+// compareAll: what can be reached from the first roots, over up to four references, and what is the same there.
+func (p pair) compareAll(t *testing.T) {
+	t.Helper()
+	for _, path := range pathsOf("xnmyz", 4) {
+		for root := range 4 {
+			is(t, "P10: Copy", p.heap.Copy(root, 7), p.model.copy(root, 7))
+			for _, field := range []byte(path) {
+				is(t, "P9: Follow", p.heap.Follow(7, field, 7), p.model.follow(7, field, 7))
+			}
+			x := p.model.roots[7]
+			if x == nil {
+				continue
+			}
+			class(t, p.heap, 7, x.class, api.OK)
+			for _, field := range []byte("xnmyz") {
+				v, e := p.model.get(7, field)
+				get(t, p.heap, 7, field, v, e)
+			}
+			for other := range 7 {
+				s, e := p.model.same(7, other)
+				same(t, p.heap, 7, other, s, e)
+			}
+		}
+	}
+}
+
+// pathsOf: all rows of up to so many of these letters.
+func pathsOf(letters string, length int) []string {
+	if length == 0 {
+		return []string{""}
+	}
+	paths := []string{""}
+	for _, path := range pathsOf(letters, length-1) {
+		for i := range len(letters) {
+			paths = append(paths, letters[i:i+1]+path)
+		}
+	}
+	return paths
 }
 
 // TestHeapsAgreeWithTheirModels: many calls, on two heaps by turns, so that neither may feel the other (P2).
 // All is compared after each call on both, so that a call that answers an error may change nothing (P1).
 func TestHeapsAgreeWithTheirModels(t *testing.T) {
-	peeks := map[api.Errno]int{}
-	for seed := int64(0); seed < 150 && !t.Failed(); seed++ {
+	peeks, commits := map[api.Errno]int{}, map[api.Errno]int{}
+	for seed := int64(0); seed < 120 && !t.Failed(); seed++ {
 		r := rand.New(rand.NewSource(seed))
 		pairs := [2]pair{somePair(t, r), somePair(t, r)}
-		for i := 0; i < 250 && !t.Failed(); i++ {
+		for i := 0; i < 300 && !t.Failed(); i++ {
 			what, got, want := pairs[r.Intn(2)].act(r)
 			if got != want {
 				t.Errorf("%s: %s, want %s", what, got, want)
@@ -278,15 +344,26 @@ func TestHeapsAgreeWithTheirModels(t *testing.T) {
 			}
 		}
 		for _, p := range pairs {
-			for e, n := range p.peeks {
-				peeks[e] += n
-			}
+			p.compareAll(t)
+			addTo(peeks, p.peeks)
+			addTo(commits, p.commits)
 		}
 	}
 	for _, e := range []api.Errno{api.OK, api.ErrIdle, api.ErrRoot, api.ErrNil, api.ErrClass, api.ErrField, api.ErrKind, api.ErrRange} {
 		if peeks[e] < 1000 {
 			t.Errorf("P15: Peek answered error %d %d times", e, peeks[e])
 		}
+	}
+	for _, e := range []api.Errno{api.OK, api.ErrIdle, api.ErrEarly, api.ErrRange, api.ErrFull} {
+		if commits[e] < 20 {
+			t.Errorf("P14: Commit answered error %d %d times", e, commits[e])
+		}
+	}
+}
+
+func addTo(sum map[api.Errno]int, part map[api.Errno]int) {
+	for e, n := range part {
+		sum[e] += n
 	}
 }
 

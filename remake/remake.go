@@ -169,6 +169,7 @@ func (h *Heap) Step(budget int) (bool, api.Errno) {
 	if budget < 1 {
 		return false, api.ErrBudget
 	}
+	h.ready = true
 	return true, api.OK
 }
 
@@ -189,14 +190,27 @@ func (h *Heap) Peek(root int, field byte) (int64, api.Errno) {
 }
 
 // Commit ends it: all is remade (P14).
-func (h *Heap) Commit() api.Errno { return api.OK }
+func (h *Heap) Commit() api.Errno {
+	if !h.pending {
+		return api.ErrIdle
+	}
+	if !h.ready {
+		return api.ErrEarly
+	}
+	next, e := h.remade()
+	if e != api.OK {
+		h.end()
+		return e
+	}
+	*h = next
+	return api.OK
+}
 
 // Abort ends it: nothing is (P15).
 func (h *Heap) Abort() api.Errno {
 	if !h.pending {
 		return api.ErrIdle
 	}
-	h.pending = false
-	h.update = updates.Update{}
+	h.end()
 	return api.OK
 }

@@ -80,6 +80,19 @@ func numberAt(numbers [api.MaxFields]int64, index int) int64 {
 	return numbers[index]
 }
 
+// take tells the old object's reference that the rule's sum, a letter alone,
+// names; 0, which is none, if it is another sum, or there is no sum.
+func (r rule) take(refs [api.MaxFields]int) int {
+	if len(r.terms) != 1 || r.terms[0].what == grammar.Number {
+		return 0
+	}
+	index := r.terms[0].index
+	if index < 0 || index >= len(refs) {
+		return 0
+	}
+	return refs[index]
+}
+
 // pile: the values that still wait for their sign. An empty one gives 0.
 type pile struct {
 	numbers []int64

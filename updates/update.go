@@ -67,21 +67,16 @@ func (u Update) Find(source byte) (Making, bool) {
 	return Making{}, false
 }
 
-// Number tells what a field of the new class becomes of an old object's
-// numbers, or why there is no such number (P15).
-func (m Making) Number(letter byte, numbers [api.MaxFields]int64) (int64, api.Errno) {
-	index := m.class.Index(letter)
-	if index < 0 || index >= len(m.class.Fields) || index >= len(m.rules) {
-		return 0, api.ErrField
+// Schema tells the new one.
+func (u Update) Schema() classes.Schema {
+	var s classes.Schema
+	for _, m := range u.makings {
+		s.Classes = append(s.Classes, m.class)
 	}
-	kind := m.class.Fields[index].Kind
-	if kind == api.Ref {
-		return 0, api.ErrKind
-	}
-	value := m.rules[index].reckon(numbers)
-	wrapped := classes.Wrap(kind, value)
-	if m.rules[index].exact && wrapped != value {
-		return 0, api.ErrRange
-	}
-	return wrapped, api.OK
+	return s
+}
+
+// Letter tells that of the new class.
+func (m Making) Letter() byte {
+	return m.class.Letter
 }

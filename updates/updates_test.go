@@ -1,6 +1,7 @@
 package updates
 
 import (
+	"slices"
 	"testing"
 
 	"remake/api"
@@ -79,11 +80,62 @@ func TestNumberOfTheFieldsPlaces(t *testing.T) {
 	}
 }
 
-// TestPileIsEmpty: terms that no text gives can do no harm.
-func TestPileIsEmpty(t *testing.T) {
+func TestNumbersTellsAllOrFails(t *testing.T) {
+	u := read(t, "P{a:w,n:r,b:w}", "P{x:w=a-b,n:r,b:b,y:h=a!,c:l}")
+	m, _ := u.Find('P')
+	for _, c := range []struct {
+		old  [api.MaxFields]int64
+		want [api.MaxFields]int64
+		e    api.Errno
+	}{
+		{[api.MaxFields]int64{7, 9, 300}, [api.MaxFields]int64{-293, 0, 44, 7, 0}, api.OK},
+		{[api.MaxFields]int64{32767, 0, 1}, [api.MaxFields]int64{32766, 0, 1, 32767, 0}, api.OK},
+		{[api.MaxFields]int64{32768, 0, 1}, [api.MaxFields]int64{}, api.ErrRange},
+	} {
+		got, e := m.Numbers(c.old)
+		if got != c.want || e != c.e {
+			t.Errorf("P14: Numbers(%v) = %v, %d, want %v, %d", c.old, got, e, c.want, c.e)
+		}
+	}
+}
+
+func TestRefsTellsWhatIsTaken(t *testing.T) {
+	u := read(t, "P{n:r,a:w,m:r,k:r}", "Q<P{m:r,b:b=a,z:r=n,k:r=0,a:r,n:w}R{m:r}")
+	m, _ := u.Find('P')
+	want := [api.MaxFields]int{3, 0, 1, 0, 0, 0}
+	if got := m.Refs([api.MaxFields]int{1, 2, 3, 4, 5, 6}); got != want {
+		t.Errorf("P14: Refs tells %v, want %v", got, want)
+	}
+	if m.Letter() != 'Q' {
+		t.Errorf("P14: the new class is %q", m.Letter())
+	}
+}
+
+// TestSchemaIsThatOfTheText: as if what stands behind "=" and "<" were not there.
+func TestSchemaIsThatOfTheText(t *testing.T) {
+	u := read(t, "P{x:w,n:r}Q{}R{}", "Z{b:l,c:r=0}Q<P{x:b=x*2+1!,m:r=n}P<Q{}")
+	got := u.Schema()
+	want, _, _ := classes.Read("Z{b:l,c:r}Q{x:b,m:r}P{}")
+	if len(got.Classes) != len(want.Classes) {
+		t.Fatalf("P14: the schema is %v, want %v", got, want)
+	}
+	for i, c := range want.Classes {
+		if got.Classes[i].Letter != c.Letter || !slices.Equal(got.Classes[i].Fields, c.Fields) {
+			t.Errorf("P14: the class at %d is %v, want %v", i, got.Classes[i], c)
+		}
+	}
+}
+
+// TestRulesOfNoText: terms that no text gives can do no harm.
+func TestRulesOfNoText(t *testing.T) {
 	for _, r := range []rule{{}, {terms: []term{{what: '+'}}}, {terms: []term{{what: 'a', index: -1}}}, {terms: []term{{what: 'a', index: 6}}}} {
 		if v := r.reckon([api.MaxFields]int64{1, 2, 3, 4, 5, 6}); v != 0 {
 			t.Errorf("%v comes to %d", r, v)
+		}
+	}
+	for _, r := range []rule{{}, {terms: []term{{what: 'a'}, {what: 'a'}}}, {terms: []term{{what: '0'}}}, {terms: []term{{what: 'a', index: -1}}}, {terms: []term{{what: 'a', index: 6}}}} {
+		if ref := r.take([api.MaxFields]int{1, 2, 3, 4, 5, 6}); ref != 0 {
+			t.Errorf("%v takes %d", r, ref)
 		}
 	}
 }
